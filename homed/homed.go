@@ -1,5 +1,5 @@
-// Package homed seats a lock's contexts, each of which has a home: all locks do
-// it alike (layers 10 to 16).
+// Package homed is what all locks do alike (layers 10 to 16): it seats their
+// contexts, each of which has a home, and does steps of these.
 package homed
 
 import (
@@ -17,4 +17,23 @@ func Seats(homes []int, timed, probed bool) (*seat.Seats, api.Errno) {
 		return nil, api.ErrArg
 	}
 	return seat.New(len(homes), timed, probed)
+}
+
+// Calls is what a step of each call does, of a context by a thread.
+type Calls struct{ Lock, Unlock, Probe func(t, as int) api.Did }
+
+// Step does a step of what is under way in a context, and ends what that comes
+// to. Nothing is done where nothing is under way.
+func Step(s *seat.Seats, t, as int, calls Calls) api.Did {
+	var did api.Did
+	switch s.State(t) {
+	case api.Locking:
+		did = calls.Lock(t, as)
+	case api.Unlocking:
+		did = calls.Unlock(t, as)
+	case api.Probing:
+		did = calls.Probe(t, as)
+	}
+	s.End(t, did.Event)
+	return did
 }

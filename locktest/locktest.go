@@ -41,6 +41,9 @@ type Kind struct {
 	Probed bool // whether Probe is taken
 	Lay    func(p *plan.Plan, homes []int) (Lock, api.Errno)
 	Model  func(p *plan.Plan, homes []int) Model
+	// More is what else such a lock tells of a context, whether it is there or
+	// not, and what its model tells; nil: nothing.
+	More func(l Lock, m Model, t int) (got, want int)
 }
 
 // Pair is a lock over a port, and its model over another one.
@@ -51,7 +54,7 @@ type Pair struct {
 	First  int // the address of its first word
 	twin   *port.Port
 	model  Model
-	probed bool
+	kind   Kind
 	states []int
 }
 
@@ -98,7 +101,7 @@ func lay(t T, laid, by *plan.Plan, k Kind, homes []int) *Pair {
 	if got, want := laid.Len(), by.Len(); got != want {
 		t.Fatalf("New with the homes %v: the plan has %d words, want %d", homes, got, want)
 	}
-	return &Pair{T: t, Lock: l, First: first, model: m, probed: k.Probed, states: make([]int, len(homes))}
+	return &Pair{T: t, Lock: l, First: first, model: m, kind: k, states: make([]int, len(homes))}
 }
 
 // ports is a port of each of two plans.
@@ -121,7 +124,8 @@ func (p *Pair) Use(x, y *port.Port) {
 	p.Holds()
 }
 
-// Holds asks Len, State of every context, and all of the port.
+// Holds asks Len, State of every context and what more it tells of each, and
+// all of the port.
 func (p *Pair) Holds() {
 	p.Helper()
 	if got := p.Lock.Len(); got != len(p.states) {
@@ -131,8 +135,22 @@ func (p *Pair) Holds() {
 		if got := p.Lock.State(t); got != want {
 			p.Fatalf("State(%d) = %d, want %d", t, got, want)
 		}
+		p.more(t)
 	}
+	p.more(-1)
+	p.more(len(p.states))
 	same(p, p.Port, p.twin)
+}
+
+// more asks what more the lock tells of a context.
+func (p *Pair) more(t int) {
+	if p.kind.More == nil {
+		return
+	}
+	if got, want := p.kind.More(p.Lock, p.model, t); got != want {
+		p.Helper()
+		p.Fatalf("more of %d: %d, want %d", t, got, want)
+	}
 }
 
 // same holds a port against what it must be.
@@ -198,7 +216,7 @@ func (p *Pair) Unlock(t int) api.Errno {
 // Probe does one Probe.
 func (p *Pair) Probe(t int) api.Errno {
 	p.Helper()
-	got, want := p.Lock.Probe(t), p.leaves(t, api.Probing, p.probed)
+	got, want := p.Lock.Probe(t), p.leaves(t, api.Probing, p.kind.Probed)
 	if got != want {
 		p.Fatalf("Probe(%d) = %d, want %d", t, got, want)
 	}

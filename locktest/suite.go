@@ -206,6 +206,7 @@ func (p *Pair) isNone(c int) {
 	if got := p.Lock.State(c); got != api.Idle {
 		p.Fatalf("State(%d) = %d", c, got)
 	}
+	p.more(c)
 	for _, d := range append(Deadlines(), -1) {
 		if e := p.Call(c, d); e != api.ErrArg {
 			p.Fatalf("Lock(%d, %d) = %d", c, d, e)
@@ -354,6 +355,7 @@ func NoAccessButAStep(t T, k Kind) {
 			p.Lock.Unlock(c)
 			p.Lock.Probe(c)
 			p.Lock.Len()
+			p.more(c)
 		}
 		if got := total(p.Port); got != all || !slices.Equal(p.Port.Words(), words) {
 			t.Fatalf("state %d: %d accesses, were %d", state, got, all)
