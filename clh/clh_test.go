@@ -413,28 +413,11 @@ func TestWhereTheWordsLieP12_1(t *testing.T) {
 // lies asks where the words of a lock lie that is laid behind some others.
 func lies(t *testing.T, before int, homes []int) {
 	t.Helper()
-	p, n := plan.New(2), len(homes)
-	p.Row(before, 6, 77)
-	l, e := clh.New(p, homes)
-	if l == nil || e != api.OK || p.Len() != before+2+n || l.Len() != n {
-		t.Fatal(before, homes, e, p.Len())
-	}
-	if a := p.Word(5, 78); a != before+2+n {
-		t.Fatalf("a word behind has the address %d", a)
-	}
-	want := append(slices.Repeat([]uint32{77}, before), make([]uint32, 2+n)...)
-	x, _ := p.Port()
-	if w := x.Words(); !slices.Equal(w, append(want, 78)) {
-		t.Fatalf("words %v", w)
-	}
-	for i, want := range append([]int{homes[0], homes[0]}, homes...) {
-		if got := x.Home(before + i); got != want {
-			t.Fatalf("%v: the home of the word %d is %d, want %d", homes, i, got, want)
-		}
-	}
-	for c := range n {
-		if got := l.Node(c); got != c+1 || l.State(c) != api.Idle {
-			t.Fatalf("%d of %d: node %d, state %d", c, n, got, l.State(c))
+	own := append([]int{homes[0], homes[0]}, homes...)
+	l := locktest.Lies(t, queue(), before, homes, own, make([]uint32, len(own)))
+	for c := range homes {
+		if got := l.(*clh.Lock).Node(c); got != c+1 {
+			t.Fatalf("%d of %d: node %d", c, len(homes), got)
 		}
 	}
 }

@@ -201,22 +201,7 @@ func TestWhereTheWordsLieP10_1(t *testing.T) {
 	for _, before := range []int{0, 1, 5, 64} {
 		for h := range api.MaxNodes {
 			for _, s := range locktest.Starts() {
-				p := plan.New(2)
-				p.Row(before, 7-h, 77)
-				l, e := flat.New(p, []int{h, 7 - h, 7 - h}, s)
-				if l == nil || e != api.OK || p.Len() != before+2 || l.Len() != 3 {
-					t.Fatal(before, h, s, e, p.Len())
-				}
-				if a := p.Word(7-h, 5); a != before+2 {
-					t.Fatalf("a word behind has the address %d", a)
-				}
-				x, _ := p.Port()
-				if w := x.Words()[before:]; !slices.Equal(w, []uint32{s, s, 5}) {
-					t.Fatalf("words %v", w)
-				}
-				if x.Home(before) != h || x.Home(before+1) != h {
-					t.Fatalf("homes %d, %d, want %d", x.Home(before), x.Home(before+1), h)
-				}
+				locktest.Lies(t, ticket(s), before, []int{h, 7 - h, 7 - h}, []int{h, h}, []uint32{s, s})
 			}
 		}
 	}

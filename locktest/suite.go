@@ -258,6 +258,38 @@ func AnyTick(t T, k Kind) {
 	}
 }
 
+// Lies lays a lock of contexts with these homes behind so many words, and asks
+// that its own words have these homes and values, that the next word lies
+// behind them, and that all contexts are idle.
+func Lies(t T, k Kind, before int, homes, own []int, values []uint32) Lock {
+	t.Helper()
+	p := plan.New(2)
+	p.Row(before, 6, 77)
+	l, e := k.Lay(p, homes)
+	if e != api.OK || l.Len() != len(homes) {
+		t.Fatalf("New with the homes %v: %d", homes, e)
+	}
+	if a := p.Word(5, 78); a != before+len(own) {
+		t.Fatalf("a word behind has the address %d, want %d", a, before+len(own))
+	}
+	x, _ := p.Port()
+	want := slices.Concat(slices.Repeat([]uint32{77}, before), values, []uint32{78})
+	if w := x.Words(); !slices.Equal(w, want) {
+		t.Fatalf("words %v, want %v", w, want)
+	}
+	for a, want := range slices.Concat(slices.Repeat([]int{6}, before), own, []int{5}) {
+		if got := x.Home(a); got != want {
+			t.Fatalf("%v: the home of the word at %d is %d, want %d", homes, a, got, want)
+		}
+	}
+	for c := range homes {
+		if got := l.State(c); got != api.Idle {
+			t.Fatalf("State(%d) = %d at first", c, got)
+		}
+	}
+	return l
+}
+
 // Refuses asks that a New refuses, and lays nothing. It tells whether there is
 // no lock, and what is wrong.
 func Refuses(t T, want api.Errno, lay func(p *plan.Plan) (bool, api.Errno)) {

@@ -247,28 +247,14 @@ func TestWhereTheWordsLieP11_1(t *testing.T) {
 // lies asks where the words of locks lie that are laid behind some others.
 func lies(t *testing.T, before int, homes []int, size int) {
 	t.Helper()
+	own := []int{homes[0]}
+	for i := range size {
+		own = append(own, homes[i%len(homes)])
+	}
 	for _, s := range locktest.Starts() {
-		p := plan.New(2)
-		p.Row(before, 6, 77)
-		l, e := slots.New(p, homes, size, s)
-		if l == nil || e != api.OK || p.Len() != before+1+size || l.Len() != len(homes) {
-			t.Fatal(before, homes, size, s, e, p.Len())
-		}
-		want := append(slices.Repeat([]uint32{77}, before), s)
-		want = append(want, make([]uint32, size)...)
-		want[before+1+int(s%uint32(size))] = 1
-		x, _ := p.Port()
-		if w := x.Words(); !slices.Equal(w, want) {
-			t.Fatalf("words %v, want %v", w, want)
-		}
-		if x.Home(before) != homes[0] {
-			t.Fatalf("the home of tail is %d", x.Home(before))
-		}
-		for i := range size {
-			if got, want := x.Home(before+1+i), homes[i%len(homes)]; got != want {
-				t.Fatalf("%v: the home of the slot %d is %d, want %d", homes, i, got, want)
-			}
-		}
+		values := make([]uint32, len(own))
+		values[0], values[1+int(s%uint32(size))] = s, 1
+		locktest.Lies(t, array(size, s), before, homes, own, values)
 	}
 }
 
