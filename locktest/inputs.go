@@ -67,7 +67,16 @@ func NoContexts(n int) []int {
 	return []int{-1, -2, -n, -n - 1, -64, n, n + 1, n + 64, 2 * n, math.MinInt64, math.MaxInt64, math.MinInt32, math.MaxInt32, 1 << 32, 1<<32 + n - 1, -1 << 32, 1<<32 - 1, 1 << 16, 1 << 8, 64 << 8}
 }
 
-// Deadlines are those that aren't taken.
+// Deadlines are those that aren't taken, or just by a lock that takes some.
 func Deadlines() []int {
 	return []int{0, 1, 2, 20, -2, -3, math.MinInt64, math.MaxInt64, 1<<32 - 1, -1 - 1<<32, 255}
+}
+
+// Others are values of which each differs from v, some in one bit alone.
+func Others(v uint32) []uint32 {
+	values := []uint32{v + 1, v - 1, ^v}
+	for bit := range 32 {
+		values = append(values, v^1<<bit)
+	}
+	return values
 }

@@ -35,10 +35,19 @@ type Model interface {
 	Step(state, t, as int) api.Did
 }
 
+// Timed is a model of a lock that takes deadlines. At tells it the tick of the
+// step that follows, and the deadline of the call for the lock that this is one
+// of.
+type Timed interface {
+	Model
+	At(now, deadline int)
+}
+
 // Kind is how a lock and its model are made; each lays its words in a plan of
 // its own.
 type Kind struct {
 	Probed bool // whether Probe is taken
+	Timed  bool // whether deadlines are; such a lock's model is Timed
 	Lay    func(p *plan.Plan, homes []int) (Lock, api.Errno)
 	Model  func(p *plan.Plan, homes []int) Model
 	// More is what else such a lock tells of a context, whether it is there or
@@ -49,13 +58,16 @@ type Kind struct {
 // Pair is a lock over a port, and its model over another one.
 type Pair struct {
 	T
-	Lock   Lock
-	Port   *port.Port
-	First  int // the address of its first word
-	twin   *port.Port
-	model  Model
-	kind   Kind
-	states []int
+	Lock  Lock
+	Port  *port.Port
+	First int // the address of its first word
+	Now   int // the tick of Does and Until, and of Any, with which it rises
+	twin  *port.Port
+	model Model
+	kind  Kind
+
+	states, deadlines []int // of each context
+	asked             int   // of how many contexts it asked what more a lock tells
 }
 
 // New is a lock of contexts with these homes, as NewRow has them.
@@ -101,7 +113,8 @@ func lay(t T, laid, by *plan.Plan, k Kind, homes []int) *Pair {
 	if got, want := laid.Len(), by.Len(); got != want {
 		t.Fatalf("New with the homes %v: the plan has %d words, want %d", homes, got, want)
 	}
-	return &Pair{T: t, Lock: l, First: first, model: m, kind: k, states: make([]int, len(homes))}
+	n := len(homes)
+	return &Pair{T: t, Lock: l, First: first, model: m, kind: k, states: make([]int, n), deadlines: make([]int, n)}
 }
 
 // ports is a port of each of two plans.
@@ -124,8 +137,8 @@ func (p *Pair) Use(x, y *port.Port) {
 	p.Holds()
 }
 
-// Holds asks Len, State of every context and what more it tells of each, and
-// all of the port.
+// Holds asks Len, State of every context and what more it tells of some, and all
+// of the port.
 func (p *Pair) Holds() {
 	p.Helper()
 	if got := p.Lock.Len(); got != len(p.states) {
@@ -135,7 +148,11 @@ func (p *Pair) Holds() {
 		if got := p.Lock.State(t); got != want {
 			p.Fatalf("State(%d) = %d, want %d", t, got, want)
 		}
-		p.more(t)
+	}
+	// By turns, where there are many: to ask all of them may take long.
+	for range min(len(p.states), 8) {
+		p.more(p.asked % len(p.states))
+		p.asked++
 	}
 	p.more(-1)
 	p.more(len(p.states))
@@ -179,6 +196,16 @@ func counts(p *port.Port, t int) [3]int {
 // has tells whether there is such a context.
 func (p *Pair) has(t int) bool { return 0 <= t && t < len(p.states) }
 
+// AllIdle tells whether all contexts are idle.
+func (p *Pair) AllIdle() bool {
+	for t := range p.states {
+		if p.Lock.State(t) != api.Idle {
+			return false
+		}
+	}
+	return true
+}
+
 // Call does one Lock, and asks all behind it; so do the calls that follow.
 func (p *Pair) Call(t, deadline int) api.Errno {
 	p.Helper()
@@ -192,13 +219,13 @@ func (p *Pair) Call(t, deadline int) api.Errno {
 
 // locks is what Lock must answer and do.
 func (p *Pair) locks(t, deadline int) api.Errno {
-	if !p.has(t) || deadline != -1 {
+	if !p.has(t) || deadline < -1 || deadline != -1 && !p.kind.Timed {
 		return api.ErrArg
 	}
 	if p.states[t] != api.Idle {
 		return api.ErrBusy
 	}
-	p.states[t] = api.Locking
+	p.states[t], p.deadlines[t] = api.Locking, deadline
 	return api.OK
 }
 
@@ -242,7 +269,7 @@ func (p *Pair) leaves(t, next int, taken bool) api.Errno {
 // Step does one Step.
 func (p *Pair) Step(t, as, now int) api.Did {
 	p.Helper()
-	got, want := p.Lock.Step(t, as, now), p.steps(t, as)
+	got, want := p.Lock.Step(t, as, now), p.steps(t, as, now)
 	if got != want {
 		p.Fatalf("Step(%d, %d, %d) = %v, want %v", t, as, now, got, want)
 	}
@@ -251,15 +278,18 @@ func (p *Pair) Step(t, as, now int) api.Did {
 }
 
 // steps is what Step must answer and do.
-func (p *Pair) steps(t, as int) api.Did {
+func (p *Pair) steps(t, as, now int) api.Did {
 	if !p.has(t) || p.states[t] == api.Idle || p.states[t] == api.Holding {
 		return api.Did{}
+	}
+	if m, ok := p.model.(Timed); ok {
+		m.At(now, p.deadlines[t])
 	}
 	did := p.model.Step(p.states[t], t, as)
 	switch did.Event {
 	case api.Granted, api.Alone, api.Company:
 		p.states[t] = api.Holding
-	case api.Released:
+	case api.Released, api.TimedOut, api.Refused:
 		p.states[t] = api.Idle
 	}
 	return did
@@ -269,7 +299,7 @@ func (p *Pair) steps(t, as int) api.Did {
 func (p *Pair) Does(t int, want ...api.Did) {
 	p.Helper()
 	for _, did := range want {
-		if got := p.Step(t, t, 0); got != did {
+		if got := p.Step(t, t, p.Now); got != did {
 			p.Fatalf("step of %d: %v, want %v", t, got, did)
 		}
 	}
@@ -278,8 +308,14 @@ func (p *Pair) Does(t int, want ...api.Did) {
 // Calls begins a call for the lock, which must be right.
 func (p *Pair) Calls(t int) {
 	p.Helper()
-	if e := p.Call(t, -1); e != api.OK {
-		p.Fatalf("Lock(%d, -1) = %d", t, e)
+	p.CallsTill(t, -1)
+}
+
+// CallsTill does so with a deadline.
+func (p *Pair) CallsTill(t, deadline int) {
+	p.Helper()
+	if e := p.Call(t, deadline); e != api.OK {
+		p.Fatalf("Lock(%d, %d) = %d", t, deadline, e)
 	}
 }
 
@@ -288,7 +324,7 @@ func (p *Pair) Calls(t int) {
 func (p *Pair) Until(t, event int) {
 	p.Helper()
 	for range 100 {
-		if p.Step(t, t, 0).Event == event {
+		if p.Step(t, t, p.Now).Event == event {
 			return
 		}
 	}
@@ -333,21 +369,37 @@ func (p *Pair) Words(want ...uint32) {
 // Any does a call or a step of those that there are, now and then a wrong one.
 func (p *Pair) Any(r *Numbers) {
 	p.Helper()
-	t, deadline := r.Below(len(p.states)), -1
+	p.Now += r.Below(2)
+	t, deadline := r.Below(len(p.states)), p.soon(r)
 	if r.Below(16) == 0 {
 		t = r.of(NoContexts(len(p.states)))
 	}
 	if r.Below(16) == 0 {
 		deadline = r.of(Deadlines())
 	}
-	switch r.Below(12) {
+	p.does(r.Below(12), t, r.Below(p.Port.Threads()), deadline)
+}
+
+// does does a call of a context, or a step of it by that thread, and tells what
+// came of it.
+func (p *Pair) does(which, t, as, deadline int) (api.Errno, api.Did) {
+	p.Helper()
+	switch which {
 	case 0, 1:
-		p.Call(t, deadline)
+		return p.Call(t, deadline), api.Did{}
 	case 2:
-		p.Unlock(t)
+		return p.Unlock(t), api.Did{}
 	case 3:
-		p.Probe(t)
-	default:
-		p.Step(t, r.Below(p.Port.Threads()), r.Below(1000)-1)
+		return p.Probe(t), api.Did{}
 	}
+	return api.OK, p.Step(t, as, p.Now)
+}
+
+// soon is a deadline that is taken: none, one that is over, or one some steps of
+// each context away.
+func (p *Pair) soon(r *Numbers) int {
+	if !p.kind.Timed || r.Below(2) == 0 {
+		return -1
+	}
+	return max(p.Now-4, 0) + r.Below(16*len(p.states))
 }

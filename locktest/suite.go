@@ -115,12 +115,11 @@ func ByTurns(t T, k Kind, n, calls int) {
 		for c := range n {
 			p.goOn(c, left)
 		}
-	}
-	for c := range n {
-		if left[c] != 0 || p.Lock.State(c) != api.Idle {
-			t.Fatalf("%d of %d: left %d, state %d", c, n, left[c], p.Lock.State(c))
+		if p.AllIdle() && !slices.ContainsFunc(left, func(calls int) bool { return calls > 0 }) {
+			return
 		}
 	}
+	t.Fatalf("of %d contexts some aren't at their ends; calls left: %v", n, left)
 }
 
 // goOn does what a context does by turns: it calls, unlocks when it has the
@@ -258,6 +257,39 @@ func AnyTick(t T, k Kind) {
 	}
 }
 
+// WhoeverSteps does the same calls and steps of two locks, those of the one by
+// any threads, those of the other one by the contexts' own: they come to the
+// same.
+func WhoeverSteps(t T, k Kind) {
+	t.Helper()
+	r := Numbers(133)
+	threads := []func(t int) int{
+		func(t int) int { return 0 },
+		func(t int) int { return 63 },
+		func(t int) int { return 63 - t },
+		func(t int) int { return (t + 1) % 64 },
+		func(t int) int { return t / 2 },
+		func(t int) int { return r.Below(64) },
+	}
+	for _, n := range []int{1, 2, 3, 8, 64} {
+		for _, as := range threads {
+			p, own := New(t, 64, k, Homes(n, 0)...), New(t, 64, k, Homes(n, 0)...)
+			for now := range 600 {
+				p.Now, own.Now = now, now
+				which, c, deadline := r.Below(12), r.Below(n), p.soon(&r)
+				e, did := p.does(which, c, as(c), deadline)
+				f, want := own.does(which, c, c, deadline)
+				if e != f || did != want || p.Lock.State(c) != own.Lock.State(c) {
+					t.Fatalf("%d contexts: error %d, want %d; %v, want %v", n, e, f, did, want)
+				}
+				if w, want := p.Port.Words(), own.Port.Words(); !slices.Equal(w, want) {
+					t.Fatalf("words %v, want %v", w, want)
+				}
+			}
+		}
+	}
+}
+
 // Lies lays a lock of contexts with these homes behind so many words, and asks
 // that its own words have these homes and values, that the next word lies
 // behind them, and that all contexts are idle.
@@ -347,21 +379,22 @@ func OneAccessAStep(t T, k Kind, steps int) {
 				most = 0
 			}
 			all, own := total(p.Port), p.Port.Accesses(as)
-			p.Lock.Step(c, as, 0)
+			p.Now += r.Below(2)
+			p.Lock.Step(c, as, p.Now)
 			all, own = total(p.Port)-all, p.Port.Accesses(as)-own
 			if all != own || all > most {
 				t.Fatalf("%d accesses, %d of %d, want at most %d", all, own, as, most)
 			}
-			begins(p.Lock, r.Below(8), c)
+			begins(p.Lock, r.Below(8), c, p.soon(&r))
 		}
 	}
 }
 
 // begins begins a call, or none.
-func begins(l Lock, which, t int) {
+func begins(l Lock, which, t, deadline int) {
 	switch which {
 	case 0, 1:
-		l.Lock(t, -1)
+		l.Lock(t, deadline)
 	case 2:
 		l.Unlock(t)
 	case 3:

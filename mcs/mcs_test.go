@@ -439,15 +439,6 @@ func TestProbeP13_1(t *testing.T) {
 	p.Words(2, 2, 0, 0, 1, 1, 0)
 }
 
-// others are values of which each differs from v, some in one bit alone.
-func others(v uint32) []uint32 {
-	values := []uint32{v + 1, v - 1, ^v}
-	for bit := range 32 {
-		values = append(values, v^1<<bit)
-	}
-	return values
-}
-
 // A Lock's steps go by what the words are, whoever stored it there: a tail that
 // isn't 0 is somebody ahead, a locked that isn't 0 is one that waits.
 func TestLockGoesByTheWordsP13_1(t *testing.T) {
@@ -465,7 +456,7 @@ func TestLockGoesByTheWordsP13_1(t *testing.T) {
 		want[3], want[1+2*ahead] = 9, 2
 		p.Does(1, nothing)
 		p.Words(want...)
-		for _, v := range others(0) {
+		for _, v := range locktest.Others(0) {
 			p.Sets(4, v)
 			p.Does(1, nothing)
 		}
@@ -505,7 +496,7 @@ func TestUnlockGoesByTheWordsP13_1(t *testing.T) {
 }
 
 func TestLeavesByTheWordsP13_1(t *testing.T) {
-	for _, v := range others(3) {
+	for _, v := range locktest.Others(3) {
 		p := newPair(t, 5, 1, 1)
 		holds(p, 2)
 		p.Unlock(2)
@@ -532,7 +523,7 @@ func TestLeavesByTheWordsP13_1(t *testing.T) {
 func TestProbeGoesByTheWordsP13_1(t *testing.T) {
 	p := newPair(t, 5, 1, 1)
 	holds(p, 1)
-	for _, v := range others(0) {
+	for _, v := range locktest.Others(0) {
 		p.Sets(3, v)
 		probes(p, 1, company)
 	}
@@ -547,7 +538,7 @@ func TestProbeGoesByTheWordsP13_1(t *testing.T) {
 
 // A store is one whatever the word was.
 func TestStoresWhateverItWasP13_1(t *testing.T) {
-	for _, v := range others(0) {
+	for _, v := range locktest.Others(0) {
 		p := newPair(t, 5, 1)
 		holds(p, 0)
 		p.Sets(3, v)
@@ -781,49 +772,7 @@ func TestStepsByOtherThreadsP13_3(t *testing.T) {
 	}
 }
 
-// does does a call of a context, or a step of it by that thread, and tells what
-// came of it.
-func does(p *locktest.Pair, which, t, as int) (api.Errno, api.Did) {
-	p.Helper()
-	switch which {
-	case 0, 1:
-		return p.Call(t, -1), nothing
-	case 2:
-		return p.Unlock(t), nothing
-	case 3:
-		return p.Probe(t), nothing
-	}
-	return api.OK, p.Step(t, as, 0)
-}
-
-// The same calls and steps come to the same, whoever does the steps.
-func TestWhoeverStepsP13_3(t *testing.T) {
-	r := locktest.Numbers(133)
-	threads := []func(t int) int{
-		func(t int) int { return 0 },
-		func(t int) int { return 63 },
-		func(t int) int { return 63 - t },
-		func(t int) int { return (t + 1) % 64 },
-		func(t int) int { return t / 2 },
-		func(t int) int { return r.Below(64) },
-	}
-	for _, n := range []int{1, 2, 3, 8, 64} {
-		for _, as := range threads {
-			p, own := locktest.New(t, 64, queue(), locktest.Homes(n, 0)...), locktest.New(t, 64, queue(), locktest.Homes(n, 0)...)
-			for range 600 {
-				which, c := r.Below(12), r.Below(n)
-				e, did := does(p, which, c, as(c))
-				f, want := does(own, which, c, c)
-				if e != f || did != want || p.Lock.State(c) != own.Lock.State(c) {
-					t.Fatalf("%d contexts: error %d, want %d; %v, want %v", n, e, f, did, want)
-				}
-				if w, want := p.Port.Words(), own.Port.Words(); !slices.Equal(w, want) {
-					t.Fatalf("words %v, want %v", w, want)
-				}
-			}
-		}
-	}
-}
+func TestWhoeverStepsP13_3(t *testing.T) { locktest.WhoeverSteps(t, queue()) }
 
 // One thread alone does all steps of all contexts.
 func TestOneThreadStepsForAllP13_3(t *testing.T) {
