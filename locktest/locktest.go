@@ -50,9 +50,20 @@ type Kind struct {
 	Timed  bool // whether deadlines are; such a lock's model is Timed
 	Lay    func(p *plan.Plan, homes []int) (Lock, api.Errno)
 	Model  func(p *plan.Plan, homes []int) Model
+	// Homes is homes of so many contexts, of which the suite's locks are; nil:
+	// those of the function Homes.
+	Homes func(n, first int) []int
 	// More is what else such a lock tells of a context, whether it is there or
 	// not, and what its model tells; nil: nothing.
 	More func(l Lock, m Model, t int) (got, want int)
+}
+
+// homes is homes of so many contexts.
+func (k Kind) homes(n, first int) []int {
+	if k.Homes == nil {
+		return Homes(n, first)
+	}
+	return k.Homes(n, first)
 }
 
 // Pair is a lock over a port, and its model over another one.

@@ -14,7 +14,7 @@ func AnyCalls(t T, k Kind, steps int) {
 	t.Helper()
 	r := Numbers(steps)
 	for _, n := range []int{1, 2, 3, 4, 7, 8, 63, 64} {
-		p := New(t, 1+r.Below(api.MaxThreads), k, Homes(n, r.Below(api.MaxNodes))...)
+		p := New(t, 1+r.Below(api.MaxThreads), k, k.homes(n, r.Below(api.MaxNodes))...)
 		for range steps {
 			p.Any(&r)
 		}
@@ -26,7 +26,7 @@ func AnyCalls(t T, k Kind, steps int) {
 func RowInOnePlan(t T, k Kind, steps int) {
 	t.Helper()
 	r := Numbers(steps)
-	pairs := NewRow(t, 9, k, []int{6, 1, 2}, []int{4, 0}, []int{5})
+	pairs := NewRow(t, 9, k, k.homes(3, 6), k.homes(2, 4), k.homes(1, 5))
 	for range steps {
 		pairs[r.Below(3)].Any(&r)
 		for _, p := range pairs {
@@ -41,7 +41,7 @@ func PortsOfOnePlan(t T, k Kind, steps int) {
 	t.Helper()
 	r := Numbers(steps)
 	laid, by := plan.New(4), plan.New(4)
-	pairs := []*Pair{lay(t, laid, by, k, []int{1, 2, 3}), lay(t, laid, by, k, []int{7, 0})}
+	pairs := []*Pair{lay(t, laid, by, k, k.homes(3, 1)), lay(t, laid, by, k, k.homes(2, 7))}
 	for _, p := range pairs {
 		p.Use(ports(t, laid, by))
 	}
@@ -58,7 +58,7 @@ func UseOfOtherPorts(t T, k Kind, steps int) {
 	t.Helper()
 	r := Numbers(steps)
 	laid, by := plan.New(4), plan.New(4)
-	p := lay(t, laid, by, k, []int{1, 2, 3})
+	p := lay(t, laid, by, k, k.homes(3, 1))
 	var all [3][2]*port.Port
 	for i := range all {
 		x, y := ports(t, laid, by)
@@ -81,7 +81,7 @@ func UseOfOtherPorts(t T, k Kind, steps int) {
 func GrantsInOrderOfEnqs(t T, k Kind, n, steps int) {
 	t.Helper()
 	r := Numbers(n)
-	p := New(t, n, k, Homes(n, 1)...)
+	p := New(t, n, k, k.homes(n, 1)...)
 	var queue []int
 	for range steps {
 		c := r.Below(n)
@@ -109,7 +109,7 @@ func GrantsInOrderOfEnqs(t T, k Kind, n, steps int) {
 // unlocks it, and must be at its end then.
 func ByTurns(t T, k Kind, n, calls int) {
 	t.Helper()
-	p := New(t, n, k, Homes(n, 2)...)
+	p := New(t, n, k, k.homes(n, 2)...)
 	left := slices.Repeat([]int{calls}, n)
 	for range 16 * n * calls {
 		for c := range n {
@@ -141,7 +141,7 @@ func (p *Pair) goOn(t int, left []int) {
 func HowManyContexts(t T, k Kind) {
 	t.Helper()
 	for n := 1; n <= api.MaxThreads; n++ {
-		p := New(t, n, k, Homes(n, n)...)
+		p := New(t, n, k, k.homes(n, n)...)
 		for _, c := range []int{0, n / 2, n - 1} {
 			p.Bring(c, api.Unlocking)
 			p.Until(c, api.Released)
@@ -155,7 +155,7 @@ func EachCallInEachState(t T, k Kind) {
 	for _, state := range States(k.Probed) {
 		for _, n := range []int{1, 3, 64} {
 			for call := range 3 {
-				p := New(t, n, k, Homes(n, 0)...)
+				p := New(t, n, k, k.homes(n, 0)...)
 				p.Bring(n-1, state)
 				switch call {
 				case 0:
@@ -190,7 +190,7 @@ func NoSuchContext(t T, k Kind) {
 	t.Helper()
 	for _, n := range []int{1, 2, 63, 64} {
 		for _, state := range States(k.Probed) {
-			p := New(t, max(n, 3), k, Homes(n, 0)...)
+			p := New(t, max(n, 3), k, k.homes(n, 0)...)
 			p.Bring(n-1, state)
 			for _, c := range NoContexts(n) {
 				p.isNone(c)
@@ -273,7 +273,7 @@ func WhoeverSteps(t T, k Kind) {
 	}
 	for _, n := range []int{1, 2, 3, 8, 64} {
 		for _, as := range threads {
-			p, own := New(t, 64, k, Homes(n, 0)...), New(t, 64, k, Homes(n, 0)...)
+			p, own := New(t, 64, k, k.homes(n, 0)...), New(t, 64, k, k.homes(n, 0)...)
 			for now := range 600 {
 				p.Now, own.Now = now, now
 				which, c, deadline := r.Below(12), r.Below(n), p.soon(&r)
@@ -372,7 +372,7 @@ func OneAccessAStep(t T, k Kind, steps int) {
 	t.Helper()
 	r := Numbers(steps)
 	for _, n := range []int{1, 2, 5, 64} {
-		p := New(t, 8, k, Homes(n, 0)...)
+		p := New(t, 8, k, k.homes(n, 0)...)
 		for range steps {
 			c, as, most := r.Below(n+2)-1, r.Below(8), 1
 			if s := p.Lock.State(c); s == api.Idle || s == api.Holding {
