@@ -152,31 +152,16 @@ func queue(clusters ...int) locktest.Kind {
 		},
 	}
 	if len(clusters) > 0 {
-		k.Homes = func(n, first int) []int { return within(n, first, clusters) }
+		k.Homes = func(n, first int) []int { return locktest.Within(n, first, clusters) }
 	}
 	return k
-}
-
-// within is homes that are these clusters by turns.
-func within(n, first int, clusters []int) []int {
-	homes := make([]int, n)
-	for i := range homes {
-		homes[i] = clusters[(first+i)%len(clusters)]
-	}
-	return homes
-}
-
-// clusters are those that contexts are in by turns: all in one, in few, some
-// more often than others, and in all.
-func clusters() [][]int {
-	return [][]int{{0}, {7}, {0, 7}, {2, 2, 5, 2, 6}, {0, 1, 2, 3, 4, 5, 6, 7}}
 }
 
 // kinds are locks of contexts in these clusters, and those that other locks are
 // tried with.
 func kinds() []locktest.Kind {
 	all := []locktest.Kind{queue()}
-	for _, c := range clusters() {
+	for _, c := range locktest.Nodes() {
 		all = append(all, queue(c...))
 	}
 	return all
@@ -766,9 +751,9 @@ func TestNodesGoThroughClustersP15_1(t *testing.T) {
 
 // Over many calls each context has each node.
 func TestEachHasEachNodeP15_1(t *testing.T) {
-	for _, in := range clusters() {
+	for _, in := range locktest.Nodes() {
 		r := locktest.Numbers(15)
-		p := newPair(t, within(5, 0, in)...)
+		p := newPair(t, locktest.Within(5, 0, in)...)
 		var had [5][6]bool
 		for range 500 {
 			c := r.Below(5)
@@ -863,29 +848,14 @@ func TestAnyCallsP15_1(t *testing.T) {
 	}
 }
 
-// goesOn does what a context does next, in whatever state it is: it calls for
-// the lock, unlocks, or does a step.
-func goesOn(p *locktest.Pair, t, as int) api.Did {
-	p.Helper()
-	switch p.Lock.State(t) {
-	case api.Idle:
-		p.Calls(t)
-	case api.Holding:
-		p.Unlock(t)
-	default:
-		return p.Step(t, as, p.Now)
-	}
-	return api.Did{}
-}
-
 // Each context's calls follow each other, so that nodes go on and on.
 func TestCallsWithoutRestP15_1(t *testing.T) {
 	r := locktest.Numbers(51)
-	for _, in := range clusters() {
+	for _, in := range locktest.Nodes() {
 		for _, n := range []int{1, 2, 3, 5, 8, 17} {
-			p := newPair(t, within(n, 0, in)...)
+			p := newPair(t, locktest.Within(n, 0, in)...)
 			for range 4000 {
-				goesOn(p, r.Below(n), r.Below(n))
+				p.GoesOn(r.Below(n), r.Below(n))
 			}
 		}
 	}
@@ -1017,9 +987,9 @@ func movesOn(p *locktest.Pair) {
 
 func TestNodesMoveOnP15_3(t *testing.T) {
 	r := locktest.Numbers(153)
-	for _, in := range clusters() {
+	for _, in := range locktest.Nodes() {
 		for _, n := range []int{1, 2, 3, 4, 7, 16, 64} {
-			p := newPair(t, within(n, 1, in)...)
+			p := newPair(t, locktest.Within(n, 1, in)...)
 			for range 1000 {
 				p.Any(&r)
 				movesOn(p)
@@ -1030,12 +1000,12 @@ func TestNodesMoveOnP15_3(t *testing.T) {
 
 func TestNodesMoveOnWithoutRestP15_3(t *testing.T) {
 	r := locktest.Numbers(351)
-	for _, in := range clusters() {
+	for _, in := range locktest.Nodes() {
 		for _, n := range []int{1, 2, 3, 5, 8} {
-			p := newPair(t, within(n, 0, in)...)
+			p := newPair(t, locktest.Within(n, 0, in)...)
 			grants := 0
 			for range 4000 {
-				did := goesOn(p, r.Below(n), 0)
+				did := p.GoesOn(r.Below(n), 0)
 				movesOn(p)
 				if did.Event == api.Granted {
 					grants++
@@ -1071,72 +1041,19 @@ func TestNodesAreAtRestP15_3(t *testing.T) {
 	}
 }
 
-// order is who got a place in its cluster, and who among all, ahead of its
-// grant; who has the lock, and in which cluster; and how often somebody was
-// granted it as one who leads, and as one behind.
-type order struct {
-	homes          []int
-	queues         [8][]int
-	arrived        []int
-	has, cluster   int
-	firsts, behind int
-}
-
-// takes takes what a step did: a grant must be of the one who is first in its
-// cluster, and of whose turn it is among all, and nobody else has the lock.
-func (o *order) takes(t *testing.T, c int, did api.Did) {
-	t.Helper()
-	home := o.homes[c]
-	if did.Enq {
-		o.queues[home] = append(o.queues[home], c)
-	}
-	if did.Arrive {
-		o.arrived = append(o.arrived, c)
-	}
-	switch did.Event {
-	case api.Released:
-		o.has = -1
-	case api.Granted:
-		if o.has != -1 || o.queues[home][0] != c || !did.Lead && o.cluster != home {
-			t.Fatalf("%d was granted the lock, %d has it; cluster %d, was %d, queue %v", c, o.has, home, o.cluster, o.queues[home])
-		}
-		o.queues[home] = o.queues[home][1:]
-		o.has, o.cluster = c, home
-		o.turns(t, c, did.Lead)
-	}
-}
-
-// turns asks that who leads is the first one who arrived, and that nobody else
-// who did is granted the lock.
-func (o *order) turns(t *testing.T, c int, leads bool) {
-	t.Helper()
-	if leads != slices.Contains(o.arrived, c) || leads && o.arrived[0] != c {
-		t.Fatalf("%d was granted the lock, and leads: %t; those who arrived: %v", c, leads, o.arrived)
-	}
-	if !leads {
-		o.behind++
-		return
-	}
-	o.firsts++
-	o.arrived = o.arrived[1:]
-}
-
 // Of one cluster contexts are granted the lock in the order of their Enqs; who
 // leads is who arrived, in that order. Some contexts are slower than others.
 func TestOrderIsThatOfEnqsP15_4(t *testing.T) {
 	r := locktest.Numbers(154)
-	for _, in := range clusters() {
+	for _, in := range locktest.Nodes() {
 		for _, n := range []int{1, 2, 3, 5, 8, 16, 40, 64} {
-			o := &order{homes: within(n, 0, in), has: -1}
-			p := newPair(t, o.homes...)
+			p := newPair(t, locktest.Within(n, 0, in)...)
+			o := locktest.NewOrder(p)
 			for range 4000 {
 				c := r.Below(1 + r.Below(n))
-				o.takes(t, c, goesOn(p, c, c))
+				o.Takes(c, p.GoesOn(c, c))
 			}
-			several := slices.ContainsFunc(o.homes[1:], func(h int) bool { return h == o.homes[0] })
-			if o.firsts == 0 || several && o.behind == 0 {
-				t.Errorf("clusters %v, %d contexts: %d led, %d came behind", in, n, o.firsts, o.behind)
-			}
+			o.HadBoth()
 		}
 	}
 }

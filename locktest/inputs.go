@@ -42,6 +42,21 @@ func Homes(n, first int) []int {
 	return homes
 }
 
+// Within is homes of so many contexts that are on these nodes by turns.
+func Within(n, first int, nodes []int) []int {
+	homes := make([]int, n)
+	for i := range homes {
+		homes[i] = nodes[(first+i)%len(nodes)]
+	}
+	return homes
+}
+
+// Nodes are those that the contexts of a lock of two levels are on by turns: all
+// on one, on few, some more often than others, and on all.
+func Nodes() [][]int {
+	return [][]int{{0}, {7}, {0, 7}, {2, 2, 5, 2, 6}, {0, 1, 2, 3, 4, 5, 6, 7}}
+}
+
 // NoHomes are no homes of a lock's contexts.
 func NoHomes() [][]int {
 	wrong := [][]int{nil, {}}

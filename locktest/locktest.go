@@ -77,8 +77,8 @@ type Pair struct {
 	model Model
 	kind  Kind
 
-	states, deadlines []int // of each context
-	asked             int   // of how many contexts it asked what more a lock tells
+	homes, states, deadlines []int // of each context
+	asked                    int   // of how many contexts it asked what more a lock tells
 }
 
 // New is a lock of contexts with these homes, as NewRow has them.
@@ -125,7 +125,7 @@ func lay(t T, laid, by *plan.Plan, k Kind, homes []int) *Pair {
 		t.Fatalf("New with the homes %v: the plan has %d words, want %d", homes, got, want)
 	}
 	n := len(homes)
-	return &Pair{T: t, Lock: l, First: first, model: m, kind: k, states: make([]int, n), deadlines: make([]int, n)}
+	return &Pair{T: t, Lock: l, First: first, model: m, kind: k, homes: slices.Clone(homes), states: make([]int, n), deadlines: make([]int, n)}
 }
 
 // ports is a port of each of two plans.
@@ -360,6 +360,21 @@ func (p *Pair) Bring(t, state int) {
 	if got := p.Lock.State(t); got != state {
 		p.Fatalf("State(%d) = %d, want %d", t, got, state)
 	}
+}
+
+// GoesOn does what a context does next, in whatever state it is: it calls for the
+// lock, unlocks, or does a step.
+func (p *Pair) GoesOn(t, as int) api.Did {
+	p.Helper()
+	switch p.Lock.State(t) {
+	case api.Idle:
+		p.Calls(t)
+	case api.Holding:
+		p.Unlock(t)
+	default:
+		return p.Step(t, as, p.Now)
+	}
+	return api.Did{}
 }
 
 // Sets stores a value into a lock's word, counted from its first one, of both

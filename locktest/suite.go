@@ -126,15 +126,13 @@ func ByTurns(t T, k Kind, n, calls int) {
 // lock, and calls again as often as is left.
 func (p *Pair) goOn(t int, left []int) {
 	p.Helper()
-	switch {
-	case p.Lock.State(t) == api.Idle && left[t] > 0:
+	if p.Lock.State(t) == api.Idle {
+		if left[t] == 0 {
+			return
+		}
 		left[t]--
-		p.Calls(t)
-	case p.Lock.State(t) == api.Holding:
-		p.Unlock(t)
-	default:
-		p.Step(t, t, 0)
 	}
+	p.GoesOn(t, t)
 }
 
 // HowManyContexts goes through all numbers of contexts, who pass one by one.
