@@ -1,5 +1,5 @@
 // Package locktest holds locks against models of them. The tests of the locks
-// (layers 10 to 16) share it; no layer calls it.
+// (layers 10 to 17) share it; no layer calls it.
 package locktest
 
 import (
@@ -124,8 +124,9 @@ func lay(t T, laid, by *plan.Plan, k Kind, homes []int) *Pair {
 	if got, want := laid.Len(), by.Len(); got != want {
 		t.Fatalf("New with the homes %v: the plan has %d words, want %d", homes, got, want)
 	}
-	n := len(homes)
-	return &Pair{T: t, Lock: l, First: first, model: m, kind: k, homes: slices.Clone(homes), states: make([]int, n), deadlines: make([]int, n)}
+	p := pair(t, k, l, m, homes)
+	p.First = first
+	return p
 }
 
 // ports is a port of each of two plans.
@@ -137,6 +138,29 @@ func ports(t T, laid, by *plan.Plan) (*port.Port, *port.Port) {
 		t.Fatalf("no ports: %d, %d", e, f)
 	}
 	return x, y
+}
+
+// Ready is a lock with these homes that has been laid as the only one in a plan,
+// and is used over the port of that; its model is the only one of its plan, too.
+func Ready(t T, k Kind, l Lock, x *port.Port, homes []int) *Pair {
+	t.Helper()
+	by := plan.New(len(homes))
+	m := k.Model(by, homes)
+	y, e := by.Port()
+	if e != api.OK {
+		t.Fatalf("no port: %d", e)
+	}
+	m.Use(y)
+	p := pair(t, k, l, m, homes)
+	p.Port, p.twin = x, y
+	p.Holds()
+	return p
+}
+
+// pair is a lock with these homes, and its model.
+func pair(t T, k Kind, l Lock, m Model, homes []int) *Pair {
+	n := len(homes)
+	return &Pair{T: t, Lock: l, model: m, kind: k, homes: slices.Clone(homes), states: make([]int, n), deadlines: make([]int, n)}
 }
 
 // Use uses the lock over the one port, its model over the other one.
@@ -191,6 +215,9 @@ func same(t T, got, want *port.Port) {
 		if a, b := got.Home(w), want.Home(w); a != b {
 			t.Fatalf("Home(%d) = %d, want %d", w, a, b)
 		}
+	}
+	if a, b := got.Threads(), want.Threads(); a != b {
+		t.Fatalf("%d threads, want %d", a, b)
 	}
 	for c := range want.Threads() {
 		if a, b := counts(got, c), counts(want, c); a != b {
