@@ -1,7 +1,6 @@
 package build_test
 
 import (
-	"math"
 	"slices"
 	"strings"
 	"sync"
@@ -120,80 +119,6 @@ func ready(t *testing.T, c api.Config, l cohort.Locker, x *port.Port, e api.Errn
 	return locktest.Ready(t, kind(c), l, x, c.Homes)
 }
 
-// plain are configurations of contexts with these homes, one of each kind, of
-// which each differs in all that its kind looks at from the zero value.
-func plain(homes []int) []api.Config {
-	size := 1
-	for size < len(homes) {
-		size *= 2
-	}
-	return []api.Config{
-		{Kind: api.Ticket, Homes: homes, Start: 9},
-		{Kind: api.Slots, Homes: homes, Start: 1<<32 - 2, Slots: size},
-		{Kind: api.Clh, Homes: homes},
-		{Kind: api.Mcs, Homes: homes},
-		{Kind: api.Abort, Homes: homes, Pool: 3},
-		{Kind: api.Hier, Homes: homes},
-		{Kind: api.Cohort, Homes: homes, Global: api.Mcs, Local: api.Clh, Budget: 2},
-	}
-}
-
-// many are configurations of contexts with these homes with much of what each
-// kind looks at.
-func many(homes []int) []api.Config {
-	var cs []api.Config
-	for _, start := range locktest.Starts() {
-		cs = append(cs, api.Config{Kind: api.Ticket, Homes: homes, Start: start})
-		for size := 1; size <= 64; size *= 2 {
-			if size >= len(homes) {
-				cs = append(cs, api.Config{Kind: api.Slots, Homes: homes, Start: start, Slots: size})
-			}
-		}
-	}
-	for pool := 1; pool <= api.MaxPool; pool++ {
-		cs = append(cs, api.Config{Kind: api.Abort, Homes: homes, Pool: pool})
-	}
-	for _, budget := range []int{1, 2, 5, 999, 1000} {
-		for _, global := range []int{api.Ticket, api.Mcs} {
-			for _, local := range []int{api.Ticket, api.Clh, api.Mcs} {
-				cs = append(cs, api.Config{Kind: api.Cohort, Homes: homes, Global: global, Local: local, Budget: budget})
-			}
-		}
-	}
-	return append(cs, api.Config{Kind: api.Clh, Homes: homes}, api.Config{Kind: api.Mcs, Homes: homes}, api.Config{Kind: api.Hier, Homes: homes})
-}
-
-// strange is a configuration in which all that its kind doesn't look at is this.
-func strange(c api.Config, v int) api.Config {
-	if c.Kind != api.Ticket && c.Kind != api.Slots {
-		c.Start = uint32(v)
-	}
-	if c.Kind != api.Slots {
-		c.Slots = v
-	}
-	if c.Kind != api.Abort {
-		c.Pool = v
-	}
-	if c.Kind != api.Cohort {
-		c.Budget, c.Global, c.Local = v, v, v
-	}
-	return c
-}
-
-// far are numbers that are nothing: no kind, no size, no budget; some of them
-// would be one if they were cut to fewer bits.
-func far() []int {
-	return []int{0, -1, -2, -7, -8, 1 << 32, 1<<32 + 1, 1<<32 + 4, -1 << 32, 5 - 1<<32, 1<<32 - 1, 1<<16 + 4, math.MinInt64, math.MinInt64 + 3, math.MaxInt64, math.MinInt32, math.MaxInt32}
-}
-
-// noKinds are numbers of no kind.
-func noKinds() []int { return append(far(), 8, 9, 15, 16, 64, 255, 256, 257, 263) }
-
-// homesOf are homes of one, of some, and of as many as there may be.
-func homesOf() [][]int {
-	return [][]int{{0}, {7}, {1, 2}, {6, 6, 6}, {3, 0, 3, 7, 3}, locktest.Homes(17, 4), locktest.Homes(63, 1), locktest.Homes(64, 5)}
-}
-
 func TestExampleP17_1(t *testing.T) {
 	refuses(t, api.Config{Kind: 3}, api.ErrArg)
 	refuses(t, api.Config{Kind: 8}, api.ErrConfig)
@@ -220,7 +145,7 @@ func TestKindsAndWordsP17_1(t *testing.T) {
 }
 
 func TestNoSuchKindP17_1(t *testing.T) {
-	for _, kind := range noKinds() {
+	for _, kind := range locktest.NoKinds() {
 		if name, fifo, timed := build.Name(kind), build.Fifo(kind), build.Timed(kind); name != "" || fifo || timed {
 			t.Errorf("%d: Name %q, Fifo %t, Timed %t", kind, name, fifo, timed)
 		}
@@ -292,7 +217,7 @@ func ways() []way {
 
 // The whole way of one alone with a lock of each kind.
 func TestWayOfOneAloneP17_1(t *testing.T) {
-	for i, c := range plain([]int{1, 2}) {
+	for i, c := range locktest.Plain([]int{1, 2}) {
 		p, w := builds(t, c), ways()[i]
 		if c.Kind != w.kind || p.Port.Len() != len(w.first) || p.Port.Threads() != 2 || p.Lock.Len() != 2 {
 			t.Fatalf("kind %d: %d words, %d threads, %d contexts", c.Kind, p.Port.Len(), p.Port.Threads(), p.Lock.Len())
@@ -314,8 +239,8 @@ func TestWayOfOneAloneP17_1(t *testing.T) {
 // only one, with a thread for each context: so say the words, their homes, and
 // all counts.
 func TestAtFirstP17_1(t *testing.T) {
-	for _, homes := range homesOf() {
-		for _, c := range many(homes) {
+	for _, homes := range locktest.Crowds() {
+		for _, c := range locktest.Many(homes) {
 			p := builds(t, c)
 			if got := p.Port.Threads(); got != len(homes) {
 				t.Errorf("kind %d of %d contexts: %d threads", c.Kind, len(homes), got)
@@ -323,7 +248,7 @@ func TestAtFirstP17_1(t *testing.T) {
 		}
 	}
 	for n := 1; n <= api.MaxThreads; n++ {
-		for _, c := range plain(locktest.Homes(n, n)) {
+		for _, c := range locktest.Plain(locktest.Homes(n, n)) {
 			builds(t, c)
 		}
 	}
@@ -331,8 +256,8 @@ func TestAtFirstP17_1(t *testing.T) {
 
 func TestAnyCallsP17_1(t *testing.T) {
 	r := locktest.Numbers(17)
-	for _, homes := range homesOf() {
-		for _, c := range many(homes) {
+	for _, homes := range locktest.Crowds() {
+		for _, c := range locktest.Many(homes) {
 			p := builds(t, c)
 			for range 150 {
 				p.Any(&r)
@@ -344,9 +269,9 @@ func TestAnyCallsP17_1(t *testing.T) {
 // Each context's calls follow each other, by the threads of any.
 func TestCallsWithoutRestP17_1(t *testing.T) {
 	r := locktest.Numbers(171)
-	for _, homes := range homesOf() {
+	for _, homes := range locktest.Crowds() {
 		n := len(homes)
-		for _, c := range plain(homes) {
+		for _, c := range locktest.Plain(homes) {
 			p := builds(t, c)
 			for range 1500 {
 				p.GoesOn(r.Below(n), r.Below(n))
@@ -358,9 +283,9 @@ func TestCallsWithoutRestP17_1(t *testing.T) {
 // What a kind doesn't look at may be anything: it changes nothing.
 func TestWhatAKindDoesNotLookAtP17_1(t *testing.T) {
 	r := locktest.Numbers(172)
-	for _, v := range append(noKinds(), 1, 2, 3, 4, 5, 6, 7, 1000, 1001) {
-		for _, c := range many([]int{4, 0, 4}) {
-			l, x, e := build.New(strange(c, v))
+	for _, v := range append(locktest.NoKinds(), 1, 2, 3, 4, 5, 6, 7, 1000, 1001) {
+		for _, c := range locktest.Many([]int{4, 0, 4}) {
+			l, x, e := build.New(locktest.Besides(c, v))
 			p := ready(t, c, l, x, e)
 			for range 20 {
 				p.Any(&r)
@@ -402,7 +327,7 @@ func apart(r *locktest.Numbers, two ...*locktest.Pair) {
 // Two locks of one configuration are two.
 func TestTwoLocksP17_1(t *testing.T) {
 	r := locktest.Numbers(173)
-	for _, c := range plain([]int{3, 3, 6}) {
+	for _, c := range locktest.Plain([]int{3, 3, 6}) {
 		apart(&r, builds(t, c), builds(t, c))
 	}
 }
@@ -411,7 +336,7 @@ func TestTwoLocksP17_1(t *testing.T) {
 func TestHomesStayTheAskersP17_1(t *testing.T) {
 	for i := range all {
 		homes := []int{2, 7, 1, 5, 0, 3}
-		c := plain(homes[1:4])[i]
+		c := locktest.Plain(homes[1:4])[i]
 		p := builds(t, c)
 		m := build.Later(c)
 		if !slices.Equal(homes, []int{2, 7, 1, 5, 0, 3}) {
@@ -448,9 +373,9 @@ func refuses(t *testing.T, c api.Config, want api.Errno) {
 
 // There is no such kind: that is asked first, whatever else there is.
 func TestNoSuchKindIsRefusedP17_1(t *testing.T) {
-	for _, kind := range noKinds() {
-		for _, homes := range append(locktest.NoHomes(), homesOf()...) {
-			for _, c := range plain(homes) {
+	for _, kind := range locktest.NoKinds() {
+		for _, homes := range append(locktest.NoHomes(), locktest.Crowds()...) {
+			for _, c := range locktest.Plain(homes) {
 				c.Kind = kind
 				refuses(t, c, api.ErrConfig)
 			}
@@ -461,41 +386,16 @@ func TestNoSuchKindIsRefusedP17_1(t *testing.T) {
 // Homes that may not be are told by each kind ahead of what else is wrong.
 func TestWrongHomesP17_1(t *testing.T) {
 	for _, homes := range locktest.NoHomes() {
-		for _, c := range plain(homes) {
+		for _, c := range locktest.Plain(homes) {
 			refuses(t, c, api.ErrArg)
 			refuses(t, api.Config{Kind: c.Kind, Homes: homes}, api.ErrArg)
 		}
 	}
 }
 
-// wrong are configurations of contexts with these homes, each of a right kind, with
-// what its chapter refuses.
-func wrong(homes []int) []api.Config {
-	var cs []api.Config
-	for _, v := range append(far(), 3, 5, 6, 12, 63, 65, 128) {
-		cs = append(cs, api.Config{Kind: api.Slots, Homes: homes, Slots: v})
-	}
-	for size := 1; size < len(homes); size *= 2 {
-		cs = append(cs, api.Config{Kind: api.Slots, Homes: homes, Slots: size})
-	}
-	for _, v := range append(far(), 9, 10, 16, 64) {
-		cs = append(cs, api.Config{Kind: api.Abort, Homes: homes, Pool: v})
-	}
-	for _, v := range append(noKinds(), api.Slots, api.Clh, api.Abort, api.Hier, api.Cohort) {
-		cs = append(cs, api.Config{Kind: api.Cohort, Homes: homes, Global: v, Local: api.Mcs, Budget: 1})
-	}
-	for _, v := range append(noKinds(), api.Slots, api.Abort, api.Hier, api.Cohort) {
-		cs = append(cs, api.Config{Kind: api.Cohort, Homes: homes, Global: api.Mcs, Local: v, Budget: 1})
-	}
-	for _, v := range append(far(), 1001, 1024) {
-		cs = append(cs, api.Config{Kind: api.Cohort, Homes: homes, Global: api.Mcs, Local: api.Clh, Budget: v})
-	}
-	return cs
-}
-
 func TestWrongConfigurationsP17_1(t *testing.T) {
-	for _, homes := range homesOf() {
-		for _, c := range wrong(homes) {
+	for _, homes := range locktest.Crowds() {
+		for _, c := range locktest.WrongConfigs(homes) {
 			refuses(t, c, api.ErrConfig)
 		}
 	}
@@ -509,7 +409,7 @@ func makes(t *testing.T, c api.Config, m *build.Maker) *locktest.Pair {
 }
 
 func TestMadeP17_1(t *testing.T) {
-	for _, c := range plain([]int{1, 4}) {
+	for _, c := range locktest.Plain([]int{1, 4}) {
 		m, other := build.Later(c), build.Later(c)
 		for range 3 {
 			if m.Made() {
@@ -529,9 +429,9 @@ func TestMadeP17_1(t *testing.T) {
 // is anything.
 func TestMakesWhatNewDoesP17_1(t *testing.T) {
 	r := locktest.Numbers(174)
-	for _, homes := range homesOf() {
-		for i, c := range many(homes) {
-			p := makes(t, c, build.Later(strange(c, i-9)))
+	for _, homes := range locktest.Crowds() {
+		for i, c := range locktest.Many(homes) {
+			p := makes(t, c, build.Later(locktest.Besides(c, i-9)))
 			for range 30 {
 				p.Any(&r)
 			}
@@ -542,10 +442,10 @@ func TestMakesWhatNewDoesP17_1(t *testing.T) {
 // The homes that were handed in are those of that time, whatever becomes of them
 // behind it: ahead of the first time that the maker is asked, and between two.
 func TestHomesOfThatTimeP17_1(t *testing.T) {
-	for i, c := range plain([]int{6, 0, 6}) {
+	for i, c := range locktest.Plain([]int{6, 0, 6}) {
 		for _, v := range []int{-1, 0, 1, 7, 8} {
 			homes := []int{6, 0, 6}
-			m := build.Later(plain(homes)[i])
+			m := build.Later(locktest.Plain(homes)[i])
 			homes[0], homes[1], homes[2] = v, v, v
 			p := makes(t, c, m)
 			homes[1] = 3
@@ -564,8 +464,8 @@ func TestHomesOfThatTimeP17_1(t *testing.T) {
 // port; also if it is asked for in the midst of calls.
 func TestOneLockP17_2(t *testing.T) {
 	r := locktest.Numbers(175)
-	for _, homes := range homesOf() {
-		for _, c := range plain(homes) {
+	for _, homes := range locktest.Crowds() {
+		for _, c := range locktest.Plain(homes) {
 			m := build.Later(c)
 			p := makes(t, c, m)
 			locks := []locktest.Lock{p.Lock}
@@ -586,7 +486,7 @@ func TestOneLockP17_2(t *testing.T) {
 
 // Several ask at one time: there is one lock.
 func TestOneLockForAllWhoAskP17_2(t *testing.T) {
-	for _, c := range plain([]int{2, 3}) {
+	for _, c := range locktest.Plain([]int{2, 3}) {
 		m := build.Later(c)
 		var locks [16]cohort.Locker
 		var ports [16]*port.Port
@@ -614,7 +514,7 @@ func TestOneLockForAllWhoAskP17_2(t *testing.T) {
 // Two makers of one configuration make two locks.
 func TestTwoMakersP17_2(t *testing.T) {
 	r := locktest.Numbers(176)
-	for _, c := range plain([]int{3, 3, 6}) {
+	for _, c := range locktest.Plain([]int{3, 3, 6}) {
 		a, b := build.Later(c), build.Later(c)
 		apart(&r, makes(t, c, a), makes(t, c, b))
 	}
@@ -624,7 +524,7 @@ func TestTwoMakersP17_2(t *testing.T) {
 func TestOneErrorP17_2(t *testing.T) {
 	for i := range all {
 		homes := []int{8, 0}
-		m := build.Later(plain(homes)[i])
+		m := build.Later(locktest.Plain(homes)[i])
 		for range 3 {
 			if l, x, e := m.Lock(); l != nil || x != nil || e != api.ErrArg || !m.Made() {
 				t.Errorf("kind %d: error %d; no lock: %t, no port: %t", i+1, e, l == nil, x == nil)

@@ -1,5 +1,5 @@
 // Package locktest holds locks against models of them. The tests of the locks
-// (layers 10 to 17) share it; no layer calls it.
+// (layers 10 to 18) share it; no layer calls it.
 package locktest
 
 import (
