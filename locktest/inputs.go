@@ -16,8 +16,8 @@ func (r *Numbers) Below(n int) int {
 	return int(uint64(*r) >> 33 % uint64(n))
 }
 
-// of is one of these.
-func (r *Numbers) of(all []int) int { return all[r.Below(len(all))] }
+// Of is one of these.
+func (r *Numbers) Of(all []int) int { return all[r.Below(len(all))] }
 
 // Starts are where numbers go round soon, late, or in between.
 func Starts() []uint32 {

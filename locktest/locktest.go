@@ -1,5 +1,5 @@
 // Package locktest holds locks against models of them. The tests of the locks
-// (layers 10 to 18) share it; no layer calls it.
+// and of what runs and checks them (layers 10 to 19) share it; no layer calls it.
 package locktest
 
 import (
@@ -425,10 +425,10 @@ func (p *Pair) Any(r *Numbers) {
 	p.Now += r.Below(2)
 	t, deadline := r.Below(len(p.states)), p.soon(r)
 	if r.Below(16) == 0 {
-		t = r.of(NoContexts(len(p.states)))
+		t = r.Of(NoContexts(len(p.states)))
 	}
 	if r.Below(16) == 0 {
-		deadline = r.of(Deadlines())
+		deadline = r.Of(Deadlines())
 	}
 	p.does(r.Below(12), t, r.Below(p.Port.Threads()), deadline)
 }

@@ -89,7 +89,7 @@ func TestWayOfOneAloneP18_1(t *testing.T) {
 	for i, c := range each([]int{1, 2}) {
 		p := starts(t, c)
 		for trace.Count(p.Trace(), trace.Return) == 0 && p.Now() < 20 {
-			p.does(next(p.Machine, 1))
+			p.does(locktest.Next(p.Machine, 1))
 			p.does(tick)
 		}
 		p.told(want[i])
@@ -213,7 +213,7 @@ func TestAnyEventsP18_1(t *testing.T) {
 		for _, c := range locktest.Many(homes) {
 			p := starts(t, c)
 			for range 100 {
-				p.does(anyEvent(&r, len(homes)))
+				p.does(locktest.AnyEvent(&r, len(homes)))
 			}
 		}
 	}
@@ -228,12 +228,12 @@ func TestLongWaysP18_1(t *testing.T) {
 		for _, c := range each(homes) {
 			p := starts(t, c)
 			for range 1200 {
-				e := next(p.Machine, r.Below(n))
+				e := locktest.Next(p.Machine, r.Below(n))
 				switch {
 				case e.Kind == event.Call && c.Kind == api.Abort:
-					e.Wait = anyWait(&r)
+					e.Wait = locktest.AnyWait(&r)
 				case r.Below(10) == 0:
-					e = anyEvent(&r, n)
+					e = locktest.AnyEvent(&r, n)
 				}
 				p.does(e)
 			}
@@ -248,7 +248,7 @@ func TestLongWaysP18_1(t *testing.T) {
 func anyEvents(r *locktest.Numbers, n, many int) []event.Event {
 	var l []event.Event
 	for range many {
-		l = append(l, anyEvent(r, n))
+		l = append(l, locktest.AnyEvent(r, n))
 	}
 	return l
 }
@@ -370,7 +370,7 @@ func inEachState(t *testing.T, do func(p *pair, thread, state int)) {
 // an End of one that isn't Holding are idle, whatever their Wait is.
 func TestIdleByStateP18_1(t *testing.T) {
 	inEachState(t, func(p *pair, thread, state int) {
-		for _, wait := range waits() {
+		for _, wait := range locktest.Waits() {
 			e := event.Event{Thread: thread, Wait: wait}
 			if e.Kind = event.Pick; state == api.Idle || state == api.Holding {
 				p.idles(e)
@@ -400,7 +400,7 @@ func TestIdleInTheMidstOfCallsP18_1(t *testing.T) {
 			default:
 				p.idles(end(thread), pick(thread))
 			}
-			p.does(next(p.Machine, thread))
+			p.does(locktest.Next(p.Machine, thread))
 		}
 	}
 }
@@ -408,8 +408,8 @@ func TestIdleInTheMidstOfCallsP18_1(t *testing.T) {
 // An event of another kind is idle, of whatever thread and with whatever Wait.
 func TestNoSuchEventP18_1(t *testing.T) {
 	inEachState(t, func(p *pair, thread, state int) {
-		for i, kind := range noEvents() {
-			p.idles(event.Event{Kind: kind, Thread: thread}, event.Event{Kind: kind, Thread: thread, Wait: waits()[i%len(waits())]}, event.Event{Kind: kind, Thread: -1})
+		for i, kind := range locktest.NoEvents() {
+			p.idles(event.Event{Kind: kind, Thread: thread}, event.Event{Kind: kind, Thread: thread, Wait: locktest.Waits()[i%len(locktest.Waits())]}, event.Event{Kind: kind, Thread: -1})
 		}
 		p.idles(event.Event{})
 	})
@@ -435,7 +435,7 @@ func TestNoSuchThreadP18_1(t *testing.T) {
 func TestTickP18_1(t *testing.T) {
 	inEachState(t, func(p *pair, thread, state int) {
 		for _, any := range []int{0, thread, -1, 64} {
-			for _, wait := range waits() {
+			for _, wait := range locktest.Waits() {
 				want := tells(p.Machine)
 				want.Now++
 				if !p.does(event.Event{Kind: event.Tick, Thread: any, Wait: wait}) {
@@ -452,10 +452,10 @@ func TestTickP18_1(t *testing.T) {
 // A Pick and an End have no Wait: none that is there plays a part.
 func TestWaitOfOthersP18_1(t *testing.T) {
 	for _, c := range each([]int{1, 0}) {
-		for _, wait := range waits() {
+		for _, wait := range locktest.Waits() {
 			p, own := starts(t, c), makes(t, c)
 			for range 40 {
-				e := next(own, 1)
+				e := locktest.Next(own, 1)
 				own.Do(e)
 				if e.Kind != event.Call {
 					e.Wait = wait
@@ -470,7 +470,7 @@ func TestWaitOfOthersP18_1(t *testing.T) {
 // Where the lock has no deadlines, a Call is for ever, or idle.
 func TestNoDeadlinesP18_1(t *testing.T) {
 	for _, c := range each([]int{4, 2}) {
-		for _, wait := range waits() {
+		for _, wait := range locktest.Waits() {
 			p := starts(t, c)
 			p.does(tick)
 			if c.Kind != api.Abort && wait >= 0 {
@@ -492,7 +492,7 @@ func timed(t *testing.T, threads, pool int) *pair {
 // Wait below 0 is for ever.
 func TestDeadlineP18_1(t *testing.T) {
 	for _, now := range []int{0, 1, 9, 1 << 30, 1<<40 - 1, 1 << 40} {
-		for _, wait := range waits() {
+		for _, wait := range locktest.Waits() {
 			m, l := makes(t, api.Config{Kind: api.Abort, Homes: []int{0}, Pool: 1}), &telling{}
 			m.SetNow(now)
 			m.Wrap(l.instead)
@@ -572,7 +572,7 @@ func TestRefusedP18_1(t *testing.T) {
 
 // Who waits for ever does so, however late it is.
 func TestForEverP18_1(t *testing.T) {
-	for _, wait := range waits() {
+	for _, wait := range locktest.Waits() {
 		p := timed(t, 2, 1)
 		p.brings(0, api.Holding)
 		p.does(callFor(1, wait))
@@ -645,7 +645,7 @@ func TestHowManyThreadsP18_1(t *testing.T) {
 		for _, c := range each(locktest.Homes(n, n)) {
 			m := makes(t, c)
 			for i := range 64 * n * n {
-				m.Do(next(m, i%n))
+				m.Do(locktest.Next(m, i%n))
 			}
 			if got := trace.Count(m.Trace(), trace.Grant); got < 2*n {
 				t.Errorf("%v: %d grants by turns", c, got)
@@ -731,9 +731,9 @@ func TestTwoMachinesP18_1(t *testing.T) {
 		a, b := starts(t, c), starts(t, c)
 		for range 300 {
 			if r.Below(2) == 0 {
-				a.does(anyEvent(&r, 3))
+				a.does(locktest.AnyEvent(&r, 3))
 			} else {
-				b.does(anyEvent(&r, 3))
+				b.does(locktest.AnyEvent(&r, 3))
 			}
 			a.holds()
 			b.holds()
@@ -801,7 +801,7 @@ func TestUnlockOfAnyP18_2(t *testing.T) {
 				if p.State(thread) != api.Holding {
 					p.idles(end(thread))
 				}
-				p.does(next(p.Machine, thread))
+				p.does(locktest.Next(p.Machine, thread))
 			}
 		}
 	}
@@ -831,10 +831,10 @@ func TestTwoInEachOrderP18_3(t *testing.T) {
 				for way := range 1 << 10 {
 					m := makes(t, c)
 					for range ahead {
-						m.Do(next(m, 0))
+						m.Do(locktest.Next(m, 0))
 					}
 					for i := range 10 {
-						m.Do(next(m, way>>i&1))
+						m.Do(locktest.Next(m, way>>i&1))
 						alone(t, m)
 					}
 				}
@@ -856,7 +856,7 @@ func TestAtMostOneHoldsP18_3(t *testing.T) {
 				if i < 5000 {
 					thread = r.Below(n)
 				}
-				m.Do(next(m, thread))
+				m.Do(locktest.Next(m, thread))
 				alone(t, m)
 				granted[thread] = granted[thread] || m.State(thread) == api.Holding
 			}

@@ -1,7 +1,6 @@
 package machine_test
 
 import (
-	"math"
 	"slices"
 	"testing"
 
@@ -206,34 +205,17 @@ func (p *pair) oneHolds() {
 	}
 }
 
-// Events.
-
-func pick(t int) event.Event { return event.Event{Kind: event.Pick, Thread: t} }
-
-func call(t int) event.Event { return callFor(t, -1) }
-
-func callFor(t, wait int) event.Event {
-	return event.Event{Kind: event.Call, Thread: t, Wait: wait}
-}
-
-func end(t int) event.Event { return event.Event{Kind: event.End, Thread: t} }
-
-var tick = event.Event{Kind: event.Tick}
+// Events, by short names.
+var (
+	pick    = locktest.Pick
+	tick    = locktest.Tick()
+	call    = locktest.Call
+	callFor = locktest.CallFor
+	end     = locktest.End
+)
 
 // picks are so many picks of a thread.
 func picks(t, n int) []event.Event { return slices.Repeat([]event.Event{pick(t)}, n) }
-
-// next is what a thread does next, in whatever state it is: it calls for the
-// lock, for ever, calls to unlock, or is picked.
-func next(m *machine.Machine, t int) event.Event {
-	switch m.State(t) {
-	case api.Idle:
-		return call(t)
-	case api.Holding:
-		return end(t)
-	}
-	return pick(t)
-}
 
 // until picks a thread till it is in a state; it may take a hundred picks.
 func (p *pair) until(t, state int) {
@@ -271,49 +253,3 @@ func (p *pair) told(want string) {
 		p.t.Fatalf("the trace is, with the error %d\n%swant\n%s", e, got, want)
 	}
 }
-
-// anyEvent is any event of a thread that there is, now and then a wrong one.
-func anyEvent(r *locktest.Numbers, n int) event.Event {
-	e := event.Event{Kind: event.Pick, Thread: r.Below(n)}
-	switch r.Below(16) {
-	case 0, 1, 2:
-		e.Kind, e.Wait = event.Call, anyWait(r)
-	case 3, 4:
-		e.Kind = event.End
-	case 5, 6:
-		e = tick
-	}
-	if r.Below(32) == 0 {
-		e.Thread = one(r, locktest.NoContexts(n))
-	}
-	if r.Below(32) == 0 {
-		e.Kind = one(r, noEvents())
-	}
-	if r.Below(32) == 0 {
-		e.Wait = one(r, waits())
-	}
-	return e
-}
-
-// anyWait is a Wait: for ever, or some steps long.
-func anyWait(r *locktest.Numbers) int {
-	if r.Below(3) > 0 {
-		return -1
-	}
-	return r.Below(12)
-}
-
-// waits are Waits of which most are near a bound.
-func waits() []int {
-	return []int{-1, 0, 1, 2, 255, 256, 1<<30 - 1, 1 << 30, 1<<30 + 1, 1 << 31, 1 << 32, 1<<32 + 1, 1<<40 - 1, 1 << 40, math.MaxInt64 - 1, math.MaxInt64,
-		-2, -3, -255, -1 << 30, -1 << 31, -1 << 32, 1 - 1<<32, math.MinInt64, math.MinInt64 + 1}
-}
-
-// noEvents are numbers of no kind of events; some of them would be one if they
-// were cut to fewer bits.
-func noEvents() []int {
-	return []int{0, 5, 6, 7, 8, 9, 12, -1, -2, -3, -4, 64, 255, 256, 257, 258, 259, 260, 1<<16 + 1, 1 << 32, 1<<32 + 1, 1<<32 + 2, 1<<32 + 3, 1<<32 + 4, 2 - 1<<32, math.MinInt64, math.MinInt64 + 2, math.MaxInt64}
-}
-
-// one is one of these.
-func one(r *locktest.Numbers, all []int) int { return all[r.Below(len(all))] }
