@@ -11,7 +11,7 @@ import (
 )
 
 func TestExampleP19_1(t *testing.T) {
-	checks(t, 2, read(t, "call 0, enq 0, call 1, enq 1, grant 1"), 4, false)
+	checks(t, 2, locktest.Read(t, "call 0, enq 0, call 1, enq 1, grant 1"), 4, false)
 }
 
 // situations are entries behind which the thread 1, of three, is in each state,
@@ -92,7 +92,7 @@ func inEachSituation(t *testing.T, do func(p *pair, fits []int)) {
 	t.Helper()
 	for _, s := range situations {
 		for _, words := range s.behind {
-			do(behind(t, 3, read(t, words)), s.fits)
+			do(behind(t, 3, locktest.Read(t, words)), s.fits)
 		}
 	}
 }
@@ -101,8 +101,8 @@ func inEachSituation(t *testing.T, do func(p *pair, fits []int)) {
 func TestEachKindInEachStateP19_1(t *testing.T) {
 	for _, s := range situations {
 		for _, words := range s.behind {
-			l := read(t, words)
-			for _, e := range each(1) {
+			l := locktest.Read(t, words)
+			for _, e := range locktest.Each(1) {
 				want := slices.Contains(s.fits, e.Kind)
 				if got := behind(t, 3, l).takes(e); got != want {
 					t.Fatalf("%q (%s): %v fits: %t, want %t", words, s.state, e, got, want)
@@ -123,20 +123,20 @@ func TestWaysOfOneP19_1(t *testing.T) {
 		p := starts(t, 64)
 		for range 3 {
 			for _, kind := range []int{trace.Call, trace.Refuse, trace.Call, trace.Timeout, trace.Call} {
-				p.fits(of(kind, one))
+				p.fits(locktest.Of(kind, one))
 				p.tells(-1)
 			}
-			p.fits(of(trace.Enq, one))
+			p.fits(locktest.Of(trace.Enq, one))
 			p.tells(-1, one)
-			p.fits(of(trace.Timeout, one))
+			p.fits(locktest.Of(trace.Timeout, one))
 			p.tells(-1)
-			p.fits(of(trace.Call, one))
-			p.fits(of(trace.Enq, one))
-			p.fits(of(trace.Grant, one))
+			p.fits(locktest.Of(trace.Call, one))
+			p.fits(locktest.Of(trace.Enq, one))
+			p.fits(locktest.Of(trace.Grant, one))
 			p.tells(one)
-			p.fits(of(trace.Unlock, one))
+			p.fits(locktest.Of(trace.Unlock, one))
 			p.tells(-1)
-			p.fits(of(trace.Return, one))
+			p.fits(locktest.Of(trace.Return, one))
 			p.tells(-1)
 		}
 	}
@@ -147,7 +147,7 @@ func TestWaysOfOneP19_1(t *testing.T) {
 func (p *pair) goes(steps ...step) {
 	p.Helper()
 	for _, s := range steps {
-		for _, e := range read(p.T, s.words) {
+		for _, e := range locktest.Read(p.T, s.words) {
 			p.fits(e)
 		}
 		p.tells(s.holder, s.queue...)
@@ -219,37 +219,37 @@ func TestTimeoutInTheQueueP19_1(t *testing.T) {
 	} {
 		p := starts(t, 5)
 		p.goes(step{all, 4, []int{0, 1, 2, 3}}, way)
-		p.fits(of(trace.Unlock, 4))
+		p.fits(locktest.Of(trace.Unlock, 4))
 		for i, next := range way.queue {
 			for _, later := range way.queue[i+1:] {
-				p.fitsNot(of(trace.Grant, later))
+				p.fitsNot(locktest.Of(trace.Grant, later))
 			}
-			p.fits(of(trace.Grant, next))
+			p.fits(locktest.Of(trace.Grant, next))
 			p.tells(next, way.queue[i+1:]...)
-			p.fits(of(trace.Unlock, next))
+			p.fits(locktest.Of(trace.Unlock, next))
 		}
 	}
 }
 
 // It is the first one's turn alone, as soon as nobody is holding.
 func TestWhoseGrantFitsP19_1(t *testing.T) {
-	p := behind(t, 4, read(t, "call 2, enq 2, call 0, enq 0, call 3, enq 3, call 1"))
+	p := behind(t, 4, locktest.Read(t, "call 2, enq 2, call 0, enq 0, call 3, enq 3, call 1"))
 	for i, next := range []int{2, 0, 3} {
 		queue := []int{2, 0, 3}[i:]
 		for other := range 4 {
 			if other != next {
-				p.fitsNot(of(trace.Grant, other))
+				p.fitsNot(locktest.Of(trace.Grant, other))
 			}
 		}
 		p.tells(-1, queue...)
-		p.fits(of(trace.Grant, next))
+		p.fits(locktest.Of(trace.Grant, next))
 		for other := range 4 {
-			p.fitsNot(of(trace.Grant, other))
+			p.fitsNot(locktest.Of(trace.Grant, other))
 		}
 		p.tells(next, queue[1:]...)
-		p.fits(of(trace.Unlock, next))
+		p.fits(locktest.Of(trace.Unlock, next))
 	}
-	p.fitsNot(of(trace.Grant, 1))
+	p.fitsNot(locktest.Of(trace.Grant, 1))
 	p.tells(-1)
 }
 
@@ -257,12 +257,12 @@ func TestWhoseGrantFitsP19_1(t *testing.T) {
 func TestNothingIsDoneP19_1(t *testing.T) {
 	for _, s := range situations {
 		for _, words := range s.behind {
-			l := read(t, words)
-			for _, wrong := range each(-1, 0, 1, 2, 3) {
+			l := locktest.Read(t, words)
+			for _, wrong := range locktest.Each(-1, 0, 1, 2, 3) {
 				if behind(t, 3, l).model.fits(wrong) {
 					continue
 				}
-				for _, e := range each(0, 1, 2) {
+				for _, e := range locktest.Each(0, 1, 2) {
 					p := behind(t, 3, l)
 					p.fitsNot(wrong, wrong)
 					p.takes(e)
@@ -278,7 +278,7 @@ func TestEachTraceP19_1(t *testing.T) {
 	for threads, most := range map[int]int{1: 9, 2: 7, 3: 5} {
 		var all []trace.Entry
 		for one := -1; one <= threads; one++ {
-			all = append(all, each(one)...)
+			all = append(all, locktest.Each(one)...)
 		}
 		traces := 0
 		var from func(l []trace.Entry)
@@ -317,20 +317,20 @@ func TestLongQueueP19_1(t *testing.T) {
 		var queue []int
 		for i := range 64 {
 			one := 37 * i % 64
-			p.fits(of(trace.Call, one))
-			p.fits(of(trace.Enq, one))
+			p.fits(locktest.Of(trace.Call, one))
+			p.fits(locktest.Of(trace.Enq, one))
 			queue = append(queue, one)
 			p.tells(-1, queue...)
 		}
 		for i, next := range queue {
 			if i%5 == 2 {
-				p.fits(of(trace.Timeout, next))
+				p.fits(locktest.Of(trace.Timeout, next))
 				p.tells(-1, queue[i+1:]...)
 				continue
 			}
-			p.fits(of(trace.Grant, next))
+			p.fits(locktest.Of(trace.Grant, next))
 			p.tells(next, queue[i+1:]...)
-			p.fits(of(trace.Unlock, next))
+			p.fits(locktest.Of(trace.Unlock, next))
 		}
 	}
 }
@@ -348,12 +348,12 @@ func TestHowManyThreadsP19_1(t *testing.T) {
 		p := starts(t, threads)
 		p.tells(-1)
 		for one := -2; one < 70; one++ {
-			call := []trace.Entry{of(trace.Call, one)}
+			call := []trace.Entry{locktest.Of(trace.Call, one)}
 			if 0 <= one && one < n {
 				p.fits(call[0])
 				checks(t, threads, call, 1, true)
 			} else {
-				p.fitsNot(each(one)...)
+				p.fitsNot(locktest.Each(one)...)
 				checks(t, threads, call, 0, false)
 			}
 		}
@@ -364,17 +364,17 @@ func TestHowManyThreadsP19_1(t *testing.T) {
 func TestNoSuchThreadP19_1(t *testing.T) {
 	inEachSituation(t, func(p *pair, fits []int) {
 		for _, none := range locktest.NoContexts(3) {
-			p.fitsNot(each(none)...)
+			p.fitsNot(locktest.Each(none)...)
 		}
 	})
 	for _, threads := range []int{-1, 0, 1, 2, 63, 64} {
 		p := starts(t, threads)
 		for one := range threads {
-			p.fits(of(trace.Call, one))
-			p.fits(of(trace.Enq, one))
+			p.fits(locktest.Of(trace.Call, one))
+			p.fits(locktest.Of(trace.Enq, one))
 		}
 		for _, none := range locktest.NoContexts(max(threads, 0)) {
-			p.fitsNot(each(none)...)
+			p.fitsNot(locktest.Each(none)...)
 		}
 	}
 }
@@ -382,14 +382,14 @@ func TestNoSuchThreadP19_1(t *testing.T) {
 // An entry with Lead fits nothing, of whatever kind.
 func TestLeadP19_1(t *testing.T) {
 	inEachSituation(t, func(p *pair, fits []int) {
-		for _, e := range each(-1, 0, 1, 2, 3) {
+		for _, e := range locktest.Each(-1, 0, 1, 2, 3) {
 			e.Lead = true
 			p.fitsNot(e)
 		}
 		for _, kind := range noKinds() {
 			p.fitsNot(trace.Entry{Kind: kind, Thread: 1, Lead: true})
 		}
-		p.fits(of(fits[0], 1))
+		p.fits(locktest.Of(fits[0], 1))
 	})
 }
 
@@ -397,9 +397,9 @@ func TestLeadP19_1(t *testing.T) {
 func TestOtherKindsP19_1(t *testing.T) {
 	inEachSituation(t, func(p *pair, fits []int) {
 		for _, kind := range noKinds() {
-			p.fitsNot(of(kind, 0), of(kind, 1), of(kind, 2), of(kind, 3))
+			p.fitsNot(locktest.Of(kind, 0), locktest.Of(kind, 1), locktest.Of(kind, 2), locktest.Of(kind, 3))
 		}
-		p.fits(of(fits[0], 1))
+		p.fits(locktest.Of(fits[0], 1))
 	})
 }
 
@@ -415,7 +415,7 @@ func TestTicksP19_1(t *testing.T) {
 		}
 		l = append(l, m.anyEntry(&r))
 		n, all := fifo.Check(3, l)
-		for _, first := range ticks() {
+		for _, first := range locktest.Ticks() {
 			for _, by := range []int{0, 1, -1, 1 << 40, math.MinInt64} {
 				for i := range l {
 					l[i].Now = first + by*i
@@ -456,11 +456,11 @@ func TestCheckP19_1(t *testing.T) {
 
 // The first entry that doesn't fit may stand anywhere, also more than once.
 func TestCheckOfWrongOnesAmidP19_1(t *testing.T) {
-	good := read(t, "call 0, enq 0, call 1, grant 0, enq 1, call 2, enq 2, unlock 0, timeout 1, grant 2, return 0, call 0, refuse 0, call 0, timeout 0, unlock 2, return 2")
+	good := locktest.Read(t, "call 0, enq 0, call 1, grant 0, enq 1, call 2, enq 2, unlock 0, timeout 1, grant 2, return 0, call 0, refuse 0, call 0, timeout 0, unlock 2, return 2")
 	isTrace(t, 3, good)
 	isTrace(t, 64, good)
 	for at := range len(good) + 1 {
-		for _, wrong := range []trace.Entry{{}, of(trace.Arrive, 0), of(9, 0), of(trace.Call, 3), of(trace.Call, -1), {Kind: trace.Call, Lead: true}} {
+		for _, wrong := range []trace.Entry{{}, locktest.Of(trace.Arrive, 0), locktest.Of(9, 0), locktest.Of(trace.Call, 3), locktest.Of(trace.Call, -1), {Kind: trace.Call, Lead: true}} {
 			checks(t, 3, slices.Insert(slices.Clone(good), at, wrong), at, false)
 			checks(t, 3, slices.Insert(slices.Clone(good), at, wrong, wrong), at, false)
 		}
@@ -482,13 +482,13 @@ func TestManyEntriesP19_1(t *testing.T) {
 	var l []trace.Entry
 	for range 100000 {
 		for _, kind := range []int{trace.Call, trace.Enq, trace.Grant, trace.Unlock, trace.Return} {
-			l = append(l, of(kind, 1))
+			l = append(l, locktest.Of(kind, 1))
 		}
 	}
 	if n, ok := fifo.Check(2, l); n != len(l) || !ok {
 		t.Errorf("Check of %d entries = %d, %t", len(l), n, ok)
 	}
-	if n, ok := fifo.Check(2, append(l, of(trace.Return, 1))); n != len(l) || ok {
+	if n, ok := fifo.Check(2, append(l, locktest.Of(trace.Return, 1))); n != len(l) || ok {
 		t.Errorf("Check of %d entries, and a wrong one = %d, %t", len(l), n, ok)
 	}
 }
@@ -496,11 +496,11 @@ func TestManyEntriesP19_1(t *testing.T) {
 // A queue that was told is the asker's own: who changes it changes nothing, and
 // it stays what it was.
 func TestToldIsTheAskersP19_1(t *testing.T) {
-	p := behind(t, 5, read(t, "call 4, enq 4, call 0, enq 0, call 2, enq 2, call 1"))
+	p := behind(t, 5, locktest.Read(t, "call 4, enq 4, call 0, enq 0, call 2, enq 2, call 1"))
 	told := p.lock.Queue()
-	p.fits(of(trace.Timeout, 0))
-	p.fits(of(trace.Grant, 4))
-	p.fits(of(trace.Enq, 1))
+	p.fits(locktest.Of(trace.Timeout, 0))
+	p.fits(locktest.Of(trace.Grant, 4))
+	p.fits(locktest.Of(trace.Enq, 1))
 	if !slices.Equal(told, []int{4, 0, 2}) {
 		t.Fatalf("what was told is %v now", told)
 	}
@@ -512,13 +512,13 @@ func TestToldIsTheAskersP19_1(t *testing.T) {
 	p.tells(4, 2, 1)
 	told = append(p.lock.Queue(), 77)
 	_ = append(told[:1], 88)
-	p.fits(of(trace.Call, 3))
-	p.fits(of(trace.Enq, 3))
+	p.fits(locktest.Of(trace.Call, 3))
+	p.fits(locktest.Of(trace.Enq, 3))
 	if !slices.Equal(told, []int{2, 88, 77}) {
 		t.Fatalf("what was told is %v now", told)
 	}
-	p.fits(of(trace.Unlock, 4))
-	p.fits(of(trace.Grant, 2))
+	p.fits(locktest.Of(trace.Unlock, 4))
+	p.fits(locktest.Of(trace.Grant, 2))
 	p.tells(2, 1, 3)
 	if got := starts(t, 2).lock.Queue(); len(got) != 0 {
 		t.Fatalf("the queue is %v at first", got)
@@ -574,7 +574,7 @@ func TestWhatFitsIsOrderlyP19_2(t *testing.T) {
 		x := fifo.New(threads)
 		var l []trace.Entry
 		for range 20000 * min(threads, 8) {
-			e := of(1+r.Below(8), r.Below(threads))
+			e := locktest.Of(1+r.Below(8), r.Below(threads))
 			if x.Take(e) {
 				l = append(l, e)
 			}
@@ -588,24 +588,6 @@ func TestWhatFitsIsOrderlyP19_2(t *testing.T) {
 	}
 }
 
-// changed are a trace's entries, of which one or two aren't any more what, or
-// where, they were.
-func changed(r *locktest.Numbers, l []trace.Entry) []trace.Entry {
-	l = slices.Clone(l)
-	i, j := r.Below(len(l)), r.Below(len(l))
-	switch r.Below(4) {
-	case 0:
-		l[i], l[j] = l[j], l[i]
-	case 1:
-		l[i].Thread, l[j].Thread = l[j].Thread, l[i].Thread
-	case 2:
-		return slices.Delete(l, i, i+1)
-	case 3:
-		return slices.Insert(l, i, l[j])
-	}
-	return l
-}
-
 // What isn't orderly is no trace, however near it is to one.
 func TestWhatIsNotOrderlyIsNoTraceP19_2(t *testing.T) {
 	r := locktest.Numbers(195)
@@ -616,7 +598,7 @@ func TestWhatIsNotOrderlyIsNoTraceP19_2(t *testing.T) {
 			if !orderly(l) {
 				t.Fatalf("%v isn't orderly", l)
 			}
-			l = changed(&r, l)
+			l = locktest.Changed(&r, l)
 			n, all := fifo.Check(threads, l)
 			if all != (n == len(l)) || !orderly(l[:n]) {
 				t.Fatalf("Check(%d, %v) = %d, %t; orderly: %t", threads, l, n, all, orderly(l[:n]))

@@ -1,12 +1,9 @@
 package fifo_test
 
 import (
-	"math"
 	"slices"
-	"strings"
 	"testing"
 
-	"weighlock/api"
 	"weighlock/fifo"
 	"weighlock/locktest"
 	"weighlock/trace"
@@ -198,53 +195,14 @@ func isTrace(t *testing.T, threads int, l []trace.Entry) {
 
 // Entries.
 
-// of is one of a kind and a thread.
-func of(kind, t int) trace.Entry { return trace.Entry{Kind: kind, Thread: t} }
-
-// read are the entries of words like "call 0, enq 0", at the tick 0.
-func read(t *testing.T, words string) []trace.Entry {
-	t.Helper()
-	if words == "" {
-		return nil
-	}
-	l, _, e := trace.Parse(strings.ReplaceAll(words, ", ", " 0\n") + " 0\n")
-	if e != api.OK {
-		t.Fatalf("%q are no entries", words)
-	}
-	return l
-}
-
-// each are the entries of each kind, of all these threads.
-func each(threads ...int) []trace.Entry {
-	var l []trace.Entry
-	for _, t := range threads {
-		for kind := trace.Call; kind <= trace.Refuse; kind++ {
-			l = append(l, of(kind, t))
-		}
-	}
-	return l
-}
-
-// noKinds are numbers of no kind, and that of Arrive; some of them would be one
-// if they were cut to fewer bits.
-func noKinds() []int {
-	kinds := []int{trace.Arrive, 0, -1, -4, 9, 10, 12, 16, 255, math.MinInt64, math.MaxInt64, math.MinInt32, math.MaxInt32}
-	for kind := range 9 {
-		kinds = append(kinds, kind+1<<8, kind+1<<16, kind+1<<32, kind-1<<32, kind+math.MinInt64, -kind)
-	}
-	return kinds
-}
-
-// ticks are any, of which some may not be in a line.
-func ticks() []int {
-	return []int{0, 1, -1, 7, 1 << 32, 1 << 40, 1<<40 + 1, -1 << 40, math.MinInt64, math.MaxInt64}
-}
+// noKinds are numbers of no kind, and that of Arrive.
+func noKinds() []int { return append(locktest.NoEntries(), trace.Arrive) }
 
 // anyRight is an entry that fits, of any kind that one fits of, at any tick.
 func (m *model) anyRight(r *locktest.Numbers) trace.Entry {
 	kinds := []int{trace.Call, trace.Call, trace.Call, trace.Enq, trace.Enq, trace.Enq, trace.Grant, trace.Grant, trace.Unlock, trace.Return, trace.Timeout, trace.Refuse}
 	for {
-		e := trace.Entry{Kind: r.Of(kinds), Now: r.Of(ticks())}
+		e := trace.Entry{Kind: r.Of(kinds), Now: r.Of(locktest.Ticks())}
 		first := r.Below(m.threads)
 		for i := range m.threads {
 			if e.Thread = (first + i) % m.threads; m.fits(e) {
@@ -256,7 +214,7 @@ func (m *model) anyRight(r *locktest.Numbers) trace.Entry {
 
 // anyEntry is any, of which many don't fit, and some can't.
 func (m *model) anyEntry(r *locktest.Numbers) trace.Entry {
-	e := trace.Entry{Kind: 1 + r.Below(8), Thread: r.Below(max(m.threads, 1)), Now: r.Of(ticks())}
+	e := trace.Entry{Kind: 1 + r.Below(8), Thread: r.Below(max(m.threads, 1)), Now: r.Of(locktest.Ticks())}
 	if m.threads > 0 && r.Below(2) == 0 {
 		e = m.anyRight(r)
 	}

@@ -1,5 +1,5 @@
 // Package locktest holds locks against models of them. The tests of the locks
-// and of what runs and checks them (layers 10 to 19) share it; no layer calls it.
+// and of what runs and checks them (layers 10 to 20) share it; no layer calls it.
 package locktest
 
 import (
